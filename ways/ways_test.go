@@ -14,6 +14,7 @@ import (
 // asked is what the document's section 'Ways' asks of each layer's package.
 var asked = []struct{ layer, ways string }{
 	{"be", "array range-integer"},
+	{"poly", "array"},
 }
 
 // TestWays looks into each layer's own files: what is asked of it must be there, in the package itself.
