@@ -15,6 +15,7 @@ import (
 var asked = []struct{ layer, ways string }{
 	{"be", "array range-integer"},
 	{"poly", "array"},
+	{"nand", "closure iota"},
 }
 
 // TestWays looks into each layer's own files: what is asked of it must be there, in the package itself.
