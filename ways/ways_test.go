@@ -16,6 +16,7 @@ var asked = []struct{ layer, ways string }{
 	{"be", "array range-integer"},
 	{"poly", "array"},
 	{"nand", "closure iota"},
+	{"tag", "iota"},
 }
 
 // TestWays looks into each layer's own files: what is asked of it must be there, in the package itself.
