@@ -17,6 +17,7 @@ var asked = []struct{ layer, ways string }{
 	{"poly", "array"},
 	{"nand", "closure iota"},
 	{"tag", "iota"},
+	{"drive", "iota"},
 }
 
 // TestWays looks into each layer's own files: what is asked of it must be there, in the package itself.
