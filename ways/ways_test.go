@@ -18,6 +18,7 @@ var asked = []struct{ layer, ways string }{
 	{"nand", "closure iota"},
 	{"tag", "iota"},
 	{"drive", "iota"},
+	{"bbt", "copy"},
 }
 
 // TestWays looks into each layer's own files: what is asked of it must be there, in the package itself.
