@@ -19,6 +19,7 @@ var asked = []struct{ layer, ways string }{
 	{"tag", "iota"},
 	{"drive", "iota"},
 	{"bbt", "copy"},
+	{"twin", "map delete closure"},
 }
 
 // TestWays looks into each layer's own files: what is asked of it must be there, in the package itself.
