@@ -20,6 +20,7 @@ var asked = []struct{ layer, ways string }{
 	{"drive", "iota"},
 	{"bbt", "copy"},
 	{"twin", "map delete closure"},
+	{"pool", "iota closure"},
 }
 
 // TestWays looks into each layer's own files: what is asked of it must be there, in the package itself.
