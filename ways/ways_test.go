@@ -21,6 +21,7 @@ var asked = []struct{ layer, ways string }{
 	{"bbt", "copy"},
 	{"twin", "map delete closure"},
 	{"pool", "iota closure"},
+	{"where", "map struct-compared delete"},
 }
 
 // TestWays looks into each layer's own files: what is asked of it must be there, in the package itself.
