@@ -22,6 +22,7 @@ var asked = []struct{ layer, ways string }{
 	{"twin", "map delete closure"},
 	{"pool", "iota closure"},
 	{"where", "map struct-compared delete"},
+	{"scan", "map"},
 }
 
 // TestWays looks into each layer's own files: what is asked of it must be there, in the package itself.
