@@ -23,6 +23,7 @@ var asked = []struct{ layer, ways string }{
 	{"pool", "iota closure"},
 	{"where", "map struct-compared delete"},
 	{"scan", "map"},
+	{"victim", "variadic closure"},
 }
 
 // TestWays looks into each layer's own files: what is asked of it must be there, in the package itself.
