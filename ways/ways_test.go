@@ -24,6 +24,7 @@ var asked = []struct{ layer, ways string }{
 	{"where", "map struct-compared delete"},
 	{"scan", "map"},
 	{"victim", "variadic closure"},
+	{"move", "map range-map struct-compared"},
 }
 
 // TestWays looks into each layer's own files: what is asked of it must be there, in the package itself.
