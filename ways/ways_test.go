@@ -25,6 +25,7 @@ var asked = []struct{ layer, ways string }{
 	{"scan", "map"},
 	{"victim", "variadic closure"},
 	{"move", "map range-map struct-compared"},
+	{"level", "variadic"},
 }
 
 // TestWays looks into each layer's own files: what is asked of it must be there, in the package itself.
