@@ -26,6 +26,7 @@ var asked = []struct{ layer, ways string }{
 	{"victim", "variadic closure"},
 	{"move", "map range-map struct-compared"},
 	{"level", "variadic"},
+	{"disk", "variadic map"},
 }
 
 // TestWays looks into each layer's own files: what is asked of it must be there, in the package itself.
