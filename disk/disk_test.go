@@ -359,10 +359,12 @@ func TestAgain(t *testing.T) {
 			m.done(l)
 			l = nil
 		}
-		m.verify(nil)
+		m.verify(l)
 		last := []Write{{30, bytes("x")}}
 		told(t, "Write", m.k.Write(last...), api.OK)
 		m.done(last)
-		m.verify(slices.DeleteFunc(l, func(w Write) bool { return w.Logical == 30 }))
+		m.verify(nil)
+		m.mount(0)
+		m.verify(nil)
 	}
 }

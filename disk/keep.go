@@ -1,11 +1,14 @@
 package disk
 
 import (
+	"strings"
+
 	"tillroll/api"
 	"tillroll/geo"
 	"tillroll/level"
 	"tillroll/move"
 	"tillroll/pool"
+	"tillroll/tag"
 	"tillroll/victim"
 )
 
@@ -14,10 +17,14 @@ func (k *Disk) mover() move.Mover {
 	return move.Mover{D: k.drive, P: k.pool, S: k.stream, M: k.places}
 }
 
-// reserve: how many blocks must be free: a block that may fail yet is kept, too.
-func (k *Disk) reserve() int {
-	return geo.Reserve + max(k.config.Spares-k.pool.Count(pool.Bad), 0)
-}
+// spares: how many blocks may fail yet.
+func (k *Disk) spares() int { return max(k.config.Spares-k.pool.Count(pool.Bad), 0) }
+
+// reserve: how many blocks must be free: one that may fail yet is kept, too.
+func (k *Disk) reserve() int { return geo.Reserve + k.spares() }
+
+// safe: ahead of a block that is opened so many free ones are clean that one is still, when the power is cut and others fail.
+func (k *Disk) safe() api.Errno { return k.scrub(2 + k.spares()) }
 
 // stop: what is told of an error of what is below: without a block that was wanted it can only be read.
 func (k *Disk) stop(err api.Errno) api.Errno {
@@ -75,6 +82,9 @@ func unlessRead(err api.Errno) api.Errno {
 
 // empty: a block with pages that were given up is cleared, and erased.
 func (k *Disk) empty(b int) api.Errno {
+	if err := k.scrub(k.config.Shape.Blocks); err != api.OK {
+		return err
+	}
 	if err := k.mover().Clear(b, nil); err != api.OK {
 		return k.stop(err)
 	}
@@ -85,13 +95,15 @@ func (k *Disk) empty(b int) api.Errno {
 	return k.wipe(b)
 }
 
-// wipe: a free block is erased.
+// wipe: a free block is erased, and tells its wear.
 func (k *Disk) wipe(b int) api.Errno {
-	switch err := k.drive.Erase(b); err {
-	case api.OK:
+	err := k.drive.Erase(b)
+	if err == api.OK {
 		k.pool.Worn(b, k.pool.Wear(b)+1)
-		return api.OK
-	case api.ErrPower:
+		head := tag.Tag{Kind: tag.Head, Seq: uint64(k.pool.Wear(b)), Len: 1}
+		_, err = k.drive.Program(b, head, strings.Repeat("\x00", k.config.Shape.Size))
+	}
+	if err == api.OK || err == api.ErrPower {
 		return err
 	}
 	k.pool.Set(b, pool.Bad)
@@ -102,6 +114,9 @@ func (k *Disk) wipe(b int) api.Errno {
 func (k *Disk) heal(besides move.Pages) api.Errno {
 	for l := k.stream.Failed(); len(l) > 0; l = k.stream.Failed() {
 		for _, b := range l {
+			if k.safe() == api.ErrPower {
+				return api.ErrPower
+			}
 			if err := k.mover().Clear(b, besides); err != api.OK {
 				return k.stop(err)
 			}
@@ -150,6 +165,9 @@ func (k *Disk) writable() api.Errno {
 // ready: there is room for one page more, with as much in reserve as there must be.
 func (k *Disk) ready(besides move.Pages) api.Errno {
 	for victim.Short(k.pool, k.reserve()) {
+		if err := k.safe(); err != api.OK {
+			return err
+		}
 		ok, err := level.Win(k.mover(), besides, k.twin.Blocks()...)
 		if err := k.after(err, besides); err != api.OK {
 			return err
@@ -161,8 +179,14 @@ func (k *Disk) ready(besides move.Pages) api.Errno {
 	if k.stream.Room() > 0 {
 		return api.OK
 	}
+	if err := k.safe(); err != api.OK {
+		return err
+	}
 	_, err := level.Even(k.mover(), besides, k.config.Level, k.twin.Blocks()...)
-	return k.after(err, besides)
+	if err := k.after(err, besides); err != api.OK {
+		return err
+	}
+	return k.safe()
 }
 
 // after: what is told behind a step, and what it left is healed.
