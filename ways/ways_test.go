@@ -27,6 +27,7 @@ var asked = []struct{ layer, ways string }{
 	{"move", "map range-map struct-compared"},
 	{"level", "variadic"},
 	{"disk", "variadic map"},
+	{"rec", "variadic"},
 }
 
 // TestWays looks into each layer's own files: what is asked of it must be there, in the package itself.
