@@ -28,6 +28,7 @@ var asked = []struct{ layer, ways string }{
 	{"level", "variadic"},
 	{"disk", "variadic map"},
 	{"rec", "variadic"},
+	{"journal", "variadic range-function"},
 }
 
 // TestWays looks into each layer's own files: what is asked of it must be there, in the package itself.
