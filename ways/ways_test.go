@@ -29,6 +29,7 @@ var asked = []struct{ layer, ways string }{
 	{"disk", "variadic map"},
 	{"rec", "variadic"},
 	{"journal", "variadic range-function"},
+	{"chart", "map range-string iota"},
 }
 
 // TestWays looks into each layer's own files: what is asked of it must be there, in the package itself.
