@@ -30,6 +30,7 @@ var asked = []struct{ layer, ways string }{
 	{"rec", "variadic"},
 	{"journal", "variadic range-function"},
 	{"chart", "map range-string iota"},
+	{"post", "closure"},
 }
 
 // TestWays looks into each layer's own files: what is asked of it must be there, in the package itself.
