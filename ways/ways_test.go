@@ -31,6 +31,7 @@ var asked = []struct{ layer, ways string }{
 	{"journal", "variadic range-function"},
 	{"chart", "map range-string iota"},
 	{"post", "closure"},
+	{"books", "map delete"},
 }
 
 // TestWays looks into each layer's own files: what is asked of it must be there, in the package itself.
