@@ -32,6 +32,7 @@ var asked = []struct{ layer, ways string }{
 	{"chart", "map range-string iota"},
 	{"post", "closure"},
 	{"books", "map delete"},
+	{"sale", "generic-function method-value closure iota"},
 }
 
 // TestWays looks into each layer's own files: what is asked of it must be there, in the package itself.
