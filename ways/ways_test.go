@@ -33,6 +33,7 @@ var asked = []struct{ layer, ways string }{
 	{"post", "closure"},
 	{"books", "map delete"},
 	{"sale", "generic-function method-value closure iota"},
+	{"shift", "array range-array"},
 }
 
 // TestWays looks into each layer's own files: what is asked of it must be there, in the package itself.
