@@ -34,6 +34,7 @@ var asked = []struct{ layer, ways string }{
 	{"books", "map delete"},
 	{"sale", "generic-function method-value closure iota"},
 	{"shift", "array range-array"},
+	{"state", "constant-table array-compared iota"},
 }
 
 // TestWays looks into each layer's own files: what is asked of it must be there, in the package itself.
