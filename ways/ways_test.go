@@ -35,6 +35,7 @@ var asked = []struct{ layer, ways string }{
 	{"sale", "generic-function method-value closure iota"},
 	{"shift", "array range-array"},
 	{"state", "constant-table array-compared iota"},
+	{"req", "iota"},
 }
 
 // TestWays looks into each layer's own files: what is asked of it must be there, in the package itself.
