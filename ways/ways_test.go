@@ -36,6 +36,7 @@ var asked = []struct{ layer, ways string }{
 	{"shift", "array range-array"},
 	{"state", "constant-table array-compared iota"},
 	{"req", "iota"},
+	{"till", "method-value"},
 }
 
 // TestWays looks into each layer's own files: what is asked of it must be there, in the package itself.
