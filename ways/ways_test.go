@@ -37,6 +37,7 @@ var asked = []struct{ layer, ways string }{
 	{"state", "constant-table array-compared iota"},
 	{"req", "iota"},
 	{"till", "method-value"},
+	{"script", "method-expression function-field range-function"},
 }
 
 // TestWays looks into each layer's own files: what is asked of it must be there, in the package itself.
