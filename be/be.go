@@ -1,29 +1,29 @@
 // Package be is layer 1: numbers as bytes, most significant first.
 package be
 
-// width is the greatest width.
-const width = 8
+// most is the greatest width.
+const most = 8
 
 // right: is it a width?
-func right(n int) bool { return n >= 1 && n <= width }
+func right(n int) bool { return n >= 1 && n <= most }
 
 // Put: a number as so many bytes.
-func Put(n uint64, w int) string {
-	if !right(w) {
+func Put(n uint64, width int) string {
+	if !right(width) {
 		return ""
 	}
-	var b [width]byte
-	for i := range width {
-		b[width-1-i] = byte(n >> (8 * i))
+	var b [most]byte
+	for i := range most {
+		b[most-1-i] = byte(n >> (8 * i))
 	}
-	return string(b[width-w:])
+	return string(b[most-width:])
 }
 
 // Get: the number of bytes.
 func Get(s string) uint64 {
-	var b [width]byte
-	for i := range min(len(s), width) {
-		b[width-1-i] = s[len(s)-1-i]
+	var b [most]byte
+	for i := range min(len(s), most) {
+		b[most-1-i] = s[len(s)-1-i]
 	}
 	n := uint64(0)
 	for _, x := range b {
@@ -33,7 +33,7 @@ func Get(s string) uint64 {
 }
 
 // Fits: has a number room in so many bytes?
-func Fits(n uint64, w int) bool { return right(w) && n>>(8*w) == 0 }
+func Fits(n uint64, width int) bool { return right(width) && n>>(8*width) == 0 }
 
 // Sign: the lowest bits as a number that may be below 0.
 func Sign(n uint64, bits int) int64 {
