@@ -186,6 +186,62 @@ func TestReadOnly(t *testing.T) {
 	}
 }
 
+// TestAllFail holds P18.5: whichever blocks fail, beyond all spares, nothing is lost, and no sin is asked, also by a mount.
+func TestAllFail(t *testing.T) {
+	g := full(10, 4, 1, 2, 3)
+	for first := range g.Shape.Blocks {
+		m := newModel(t, g, int64(first))
+		if m.until(20) != nil {
+			t.Fatal("cut")
+		}
+		for b := range g.Shape.Blocks {
+			if b >= first && !m.k.hasTable(b) {
+				m.c.Wreck(b)
+			}
+		}
+		refused := false
+		for range 30 {
+			l := m.batch()
+			if err := m.k.Write(l...); err == api.OK {
+				m.done(l)
+			} else {
+				told(t, "Write", err, api.ErrRead)
+				refused = true
+			}
+		}
+		m.verify(nil)
+		k, err := Mount(m.c, g)
+		told(t, "Mount", err, api.OK)
+		m.k = k
+		m.verify(nil)
+		if bad := k.Stat().Bad; refused != k.Stat().Read || refused != (bad > g.Spares) {
+			t.Errorf("from block %d on: refused %v, %v", first, refused, k.Stat())
+		}
+		if refused {
+			told(t, "Write", k.Write(m.batch()...), api.ErrRead)
+			m.verify(nil)
+		}
+	}
+}
+
+// TestFormatTorn: a chip whose formatting was cut is formatted, when the power is on.
+func TestFormatTorn(t *testing.T) {
+	for _, torn := range tears {
+		for cut := 1; cut < 5; cut++ {
+			c, _ := nand.New(small.Shape, nil)
+			c.Fuse(cut, torn)
+			told(t, "cut", Format(c, small), api.ErrPower)
+			c.On()
+			told(t, "Format", Format(c, small), api.OK)
+			k, err := Mount(c, small)
+			told(t, "Mount", err, api.OK)
+			if k.Stat().Bad != 0 {
+				t.Errorf("cut %d, torn %x: %v", cut, torn, k.Stat())
+			}
+		}
+	}
+}
+
 // TestLastPage holds P18.3: what makes a disk one that can only be read, in the last page, doesn't refuse the batch.
 func TestLastPage(t *testing.T) {
 	g := config(8, 4, 0, 2, 1, 3)

@@ -2,6 +2,7 @@ package disk
 
 import (
 	"slices"
+	"strings"
 
 	"tillroll/api"
 	"tillroll/bbt"
@@ -52,7 +53,8 @@ func (f maker) factory() (bbt.Table, api.Errno) {
 		if err != api.OK {
 			return bbt.Table{}, err
 		}
-		if p.State == drive.Factory {
+		// A page that was torn, or failed, may look so, too, but for its bytes.
+		if p.State == drive.Factory && p.Data == strings.Repeat("\xff", f.shape.Size) {
 			t, _ = t.With(b)
 		}
 	}

@@ -85,10 +85,7 @@ func (k *Disk) empty(b int) api.Errno {
 	if err := k.scrub(k.config.Shape.Blocks); err != api.OK {
 		return err
 	}
-	if err := k.mover().Clear(b, nil); err != api.OK {
-		return k.stop(err)
-	}
-	if err := k.heal(nil); err != api.OK {
+	if err := k.after(k.mover().Clear(b, nil), nil); err != api.OK {
 		return err
 	}
 	k.mover().Free(b)
@@ -110,22 +107,27 @@ func (k *Disk) wipe(b int) api.Errno {
 	return k.mark(b)
 }
 
-// heal: blocks that failed are cleared of what they have, and are in the table of bad ones then.
+// heal: blocks that failed are cleared of what they have, and are in the table of bad ones then. One that there is no room to clear isn't: its pages are read where they are.
 func (k *Disk) heal(besides move.Pages) api.Errno {
 	for l := k.stream.Failed(); len(l) > 0; l = k.stream.Failed() {
 		for _, b := range l {
-			if k.safe() == api.ErrPower {
-				return api.ErrPower
-			}
-			if err := k.mover().Clear(b, besides); err != api.OK {
-				return k.stop(err)
-			}
-			if k.mark(b) == api.ErrPower {
+			if k.retire(b, besides) == api.ErrPower {
 				return api.ErrPower
 			}
 		}
 	}
 	return k.writable()
+}
+
+// retire: a block that failed is cleared, and in the table.
+func (k *Disk) retire(b int, besides move.Pages) api.Errno {
+	if k.safe() == api.ErrPower {
+		return api.ErrPower
+	}
+	if err := k.mover().Clear(b, besides); err != api.OK {
+		return k.stop(err)
+	}
+	return k.mark(b)
 }
 
 // mark: a block more is bad.
@@ -191,8 +193,8 @@ func (k *Disk) ready(besides move.Pages) api.Errno {
 
 // after: what is told behind a step, and what it left is healed.
 func (k *Disk) after(err api.Errno, besides move.Pages) api.Errno {
-	if err := k.stop(err); err != api.OK {
-		return err
+	if k.stop(err) == api.ErrPower {
+		return api.ErrPower
 	}
 	return k.heal(besides)
 }
