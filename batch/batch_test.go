@@ -244,4 +244,7 @@ func TestPower(t *testing.T) {
 		t.Errorf("%v, %d", p, err)
 	}
 	x.is(t, -1, 0)
+	if x.p.Count(pool.Free) != blocks-1 {
+		t.Errorf("%d are free", x.p.Count(pool.Free))
+	}
 }

@@ -206,6 +206,24 @@ func TestPower(t *testing.T) {
 	}
 }
 
+// TestPowerRead holds the words on a drive: it learns of a cut by a Read, too.
+func TestPowerRead(t *testing.T) {
+	d, c := drive(t)
+	told(t, "Erase", d.Erase(0), api.OK)
+	c.Fuse(1, "")
+	told(t, "cut", c.Erase(4), api.ErrPower)
+	if d.Next(0) != -1 {
+		t.Error("known without power")
+	}
+	if _, err := d.Read(0, 0); err != api.ErrPower {
+		t.Errorf("Read: %d", err)
+	}
+	c.On()
+	if d.Next(0) != -1 {
+		t.Error("known behind a cut")
+	}
+}
+
 // TestSins holds P8.4: whatever is asked of a drive whose bad blocks are marked, the chip sees no sin.
 func TestSins(t *testing.T) {
 	d, c := drive(t, 3)

@@ -45,6 +45,7 @@ func TestCheck(t *testing.T) {
 		{func(c *Config) { c.Logical = 27 }, api.ErrArg},
 		{func(c *Config) { c.Batch = 10 }, api.OK},
 		{func(c *Config) { c.Batch = 11 }, api.ErrArg},
+		{func(c *Config) { c.Spares = 0 }, api.OK},
 		{func(c *Config) { c.Spares = 2 }, api.OK},
 		{func(c *Config) { c.Spares = 3 }, api.ErrArg},
 		{func(c *Config) { c.Spares = -1 }, api.ErrArg},

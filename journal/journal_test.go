@@ -197,8 +197,10 @@ func TestRenew(t *testing.T) {
 	}
 	told(t, "long", x.j.Renew(many("a", 129)), api.ErrLong)
 	x.opens(t, 5, snapshot, nil)
+	told(t, "Renew", x.j.Renew(many("m", 128)), api.OK)
+	x.opens(t, 6, many("m", 128), nil)
 	told(t, "Renew", x.j.Renew(""), api.OK)
-	x.opens(t, 6, "", nil)
+	x.opens(t, 7, "", nil)
 	x.j.epoch = 1<<64 - 1
 	told(t, "long", x.j.Renew(many("a", 129)), api.ErrLong)
 	told(t, "full", x.j.Renew(""), api.ErrFull)

@@ -122,6 +122,15 @@ func TestSpread(t *testing.T) {
 	}
 }
 
+// TestSpreadFrom0 holds P11.3: the least wear may be 0, wherever it is.
+func TestSpreadFrom0(t *testing.T) {
+	for _, l := range [][]int{{0, 5, 3}, {5, 0, 3}, {5, 3, 0}} {
+		if low, high := worn(t, l...).Spread(); low != 0 || high != 5 {
+			t.Errorf("%v: %d to %d", l, low, high)
+		}
+	}
+}
+
 // TestNone holds the words on a nil pool.
 func TestNone(t *testing.T) {
 	var p *Pool

@@ -88,13 +88,15 @@ func TestFull(t *testing.T) {
 	first, _ := Run(begin)
 	one, _ := Run(begin + "books")
 	each := len(one) - len(first)
-	n := (api.MaxAnswer - len(first)) / each
-	rest := (api.MaxAnswer - len(first) - n*each)
-	s, err := Run(begin + strings.Repeat("books\n", n) + strings.Repeat("cut 1 -\n", rest/3))
-	if err != api.OK || len(s) <= api.MaxAnswer-3 {
+	n := (api.MaxAnswer-len(first))/each - 1
+	rest := api.MaxAnswer - len(first) - n*each
+	// The answers of the first lines take 3 bytes each, of the others 8.
+	wrong := 2 * rest % 3
+	begin += strings.Repeat("books\n", n) + strings.Repeat("chip 1 1 1\n", wrong) + strings.Repeat("cut 1 -\n", (rest-8*wrong)/3)
+	if s, err := Run(begin); len(s) != api.MaxAnswer || err != api.OK {
 		t.Errorf("%d bytes, %d", len(s), err)
 	}
-	if s, err := Run(begin + strings.Repeat("books\n", n+1)); s != "" || err != api.ErrFull {
+	if s, err := Run(begin + "x"); s != "" || err != api.ErrFull {
 		t.Errorf("%d bytes, %d", len(s), err)
 	}
 }

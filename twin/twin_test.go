@@ -11,6 +11,7 @@ import (
 	"tillroll/bbt"
 	"tillroll/drive"
 	"tillroll/nand"
+	"tillroll/poly"
 	"tillroll/tag"
 )
 
@@ -193,6 +194,59 @@ func TestFind(t *testing.T) {
 	told(t, "cut", d.Erase(0), api.ErrPower)
 	if x, l, err := Find(d); x != (bbt.Table{}) || l != nil || err != api.ErrPower {
 		t.Error("Find without power")
+	}
+}
+
+// TestFirstErased holds the words on writing: a block whose next page is known, and has room, isn't erased.
+func TestFirstErased(t *testing.T) {
+	c := newChip()
+	d := driveOf(c)
+	told(t, "Erase", d.Erase(0), api.OK)
+	_, err := Format(d, table(), [2]int{0, 1})
+	told(t, "Format", err, api.OK)
+	counted(t, c, 2, 2)
+	finds(t, c, 0, nil, []int{0, 1})
+}
+
+// TestLater holds the words on a block's table: it may stand behind pages that are none's.
+func TestLater(t *testing.T) {
+	c := newChip()
+	d := driveOf(c)
+	told(t, "Erase", d.Erase(3), api.OK)
+	told(t, "Program", c.Program(3, 0, strings.Repeat("t", size), strings.Repeat("u", api.Spare)), api.OK)
+	s, _ := table(1).Text(size)
+	p := poly.Make()
+	beside, _ := tag.Frame(&p, tag.Tag{Kind: tag.Table, Seq: 1, Len: 1}, s)
+	told(t, "Program", c.Program(3, 1, s, beside), api.OK)
+	finds(t, c, 1, []int{1}, []int{3})
+}
+
+// TestThird holds P10.4: a block that has a table, but isn't the twin's, is erased when it joins.
+func TestThird(t *testing.T) {
+	c := newChip()
+	d := driveOf(c)
+	for b := range 3 {
+		raw(t, d, b, table(5), tag.Table)
+	}
+	w, err := Open(driveOf(c))
+	told(t, "Open", err, api.OK)
+	told(t, "Mark", w.Mark(0), api.OK)
+	told(t, "Mark", w.Mark(1), api.ErrRead)
+	told(t, "Join", w.Join(2), api.OK)
+	is(t, w, 3, []int{0, 1, 5}, []int{2})
+	finds(t, c, 3, []int{0, 1, 5}, []int{2})
+}
+
+// TestJoinCut holds P10.4: the power is cut while the other block is written.
+func TestJoinCut(t *testing.T) {
+	for cut := 1; cut <= 4; cut++ {
+		c, w := formatted(t, 0, 1)
+		told(t, "Mark", w.Mark(0), api.OK)
+		told(t, "Mark", w.Mark(5), api.OK)
+		told(t, "owed", w.Mark(4), api.ErrFull)
+		c.Fuse(cut, "\x00")
+		told(t, "Join", w.Join(3), api.ErrPower)
+		told(t, "off", w.Mark(2), api.ErrPower)
 	}
 }
 

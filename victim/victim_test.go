@@ -75,6 +75,7 @@ func TestCold(t *testing.T) {
 	}{
 		{[]block{{used, 9, 0}, {used, 5, 0}, {used, 5, 0}}, 4, nil, 1, true},
 		{[]block{{used, 9, 0}, {used, 5, 0}}, 5, nil, 0, false},
+		{[]block{{used, 6, 0}, {used, 5, 0}}, 1, nil, 1, true},
 		{[]block{{free, 9, 0}, {used, 5, 0}}, 4, nil, 1, true},
 		{[]block{{bad, 9, 0}, {used, 5, 0}}, 1, nil, 0, false},
 		{[]block{{used, 9, 0}, {free, 5, 0}, {used, 5, 0}}, 4, nil, 0, false},
