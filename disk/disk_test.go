@@ -7,9 +7,11 @@ import (
 	"testing"
 
 	"tillroll/api"
+	"tillroll/drive"
 	"tillroll/geo"
 	"tillroll/nand"
 	"tillroll/pool"
+	"tillroll/twin"
 )
 
 var small = config(10, 4, 1, 3, 2, 3)
@@ -71,6 +73,10 @@ func TestFormatFails(t *testing.T) {
 			t.Errorf("%d: %d, not %d; %d sins", i, err, x.want, c.Sins())
 		}
 		if err == api.OK {
+			d, _ := drive.New(c)
+			if _, l, _ := twin.Find(d); len(l) != geo.Tables {
+				t.Errorf("%d: the table is in %v", i, l)
+			}
 			k, err := Mount(c, g)
 			told(t, "Mount", err, api.OK)
 			if s := k.Stat(); s.Bad != len(x.bad)+len(x.wrecked) || s.Read || s.Free != 10-s.Bad {
@@ -97,6 +103,54 @@ func TestFormatAgain(t *testing.T) {
 	told(t, "Mount", err, api.OK)
 	if s := k.Stat(); s != (Stat{Free: 8}) {
 		t.Errorf("Stat %v", s)
+	}
+}
+
+// TestFormatOver: blocks that have pages of another life, and fail to be erased.
+func TestFormatOver(t *testing.T) {
+	for spares, want := range []api.Errno{api.ErrRead, api.OK, api.OK} {
+		g := config(11, 4, spares, 2, 1, 3)
+		c, _ := nand.New(g.Shape, nil)
+		for _, b := range []int{4, 7, 9} {
+			told(t, "Program", c.Program(b, 0, bytes("a"), bytes("\xff")), api.OK)
+		}
+		c.Wreck(7)
+		told(t, "Format", Format(c, g), want)
+		if want != api.OK {
+			continue
+		}
+		k, err := Mount(c, g)
+		told(t, "Mount", err, api.OK)
+		if s := k.Stat(); s.Bad != 1 || c.Erases(4) != 1 || c.Erases(9) != 1 || c.Erases(5) != 0 || c.Sins() != 0 {
+			t.Errorf("%v, %d sins", s, c.Sins())
+		}
+	}
+}
+
+// TestLostWear: a block that lost its wear by a cut is neither a new one, nor worn most.
+func TestLostWear(t *testing.T) {
+	c, k := made(t, small)
+	told(t, "Write", k.Write(Write{0, bytes("a")}), api.OK)
+	if s := k.Stat(); s.Low != 0 || s.High != 1 {
+		t.Errorf("%v", s)
+	}
+	k, err := Mount(c, small)
+	told(t, "Mount", err, api.OK)
+	if s := k.Stat(); s.Low != 0 || s.High != 1 {
+		t.Errorf("%v", s)
+	}
+	for range 200 {
+		told(t, "Write", k.Write(Write{0, bytes("a")}), api.OK)
+	}
+	lost, before := 0, k.Stat()
+	for k.pool.State(lost) != pool.Free {
+		lost++
+	}
+	told(t, "Erase", k.drive.Erase(lost), api.OK)
+	k, err = Mount(c, small)
+	told(t, "Mount", err, api.OK)
+	if s := k.Stat(); k.Worn()[lost] != s.Low || s.Low < before.Low-1 || s.Low < 5 {
+		t.Errorf("wear %d; %v, before %v", k.Worn()[lost], s, before)
 	}
 }
 
@@ -269,7 +323,8 @@ func TestTrim(t *testing.T) {
 	told(t, "Trim", k.Trim(0), api.OK)
 	told(t, "Write", k.Write(Write{0, bytes("a")}, Write{1, bytes("b")}), api.OK)
 	told(t, "Trim", k.Trim(0), api.OK)
-	if s, err := k.Read(0); err != api.ErrNone && (s != bytes("a") || err != api.OK) {
+	// Of the last batch no page may go: it stays as it is.
+	if s, err := k.Read(0); s != bytes("a") || err != api.OK {
 		t.Errorf("%x, %d", s, err)
 	}
 	told(t, "Write", k.Write(Write{2, bytes("c")}), api.OK)

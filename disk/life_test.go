@@ -4,6 +4,10 @@ import (
 	"testing"
 
 	"tillroll/api"
+	"tillroll/drive"
+	"tillroll/geo"
+	"tillroll/pool"
+	"tillroll/tag"
 )
 
 // TestEveryCut holds P18.5: the power is cut at each place of some writes, and at each place of the mount behind it.
@@ -93,6 +97,84 @@ func TestLives(t *testing.T) {
 			m.verify(nil)
 			m.mount(0)
 			m.verify(nil)
+		}
+	}
+}
+
+// emptyBlocks: how many blocks that aren't bad, nor the table's, have no page that a scan counts.
+func (m *model) emptyBlocks() int {
+	d, _ := drive.New(m.c)
+	n := 0
+	for b := range m.g.Shape.Blocks {
+		has := m.k.hasTable(b) || m.k.pool.State(b) == pool.Bad
+		for i := range m.g.Shape.Pages {
+			p, _ := d.Read(b, i)
+			has = has || p.State == drive.Tagged && p.Tag.Kind == tag.Data
+		}
+		if !has {
+			n++
+		}
+	}
+	return n
+}
+
+// TestGather: a block isn't in use, if all that it has is in others that are, too, as behind a clearing that was cut.
+func TestGather(t *testing.T) {
+	c, k := made(t, small)
+	page := func(n int, seq uint64) tag.Tag { return tag.Tag{Kind: tag.Data, Logical: n, Seq: seq, Len: 1} }
+	x, y, z := page(0, 1), page(1, 2), page(2, 3)
+	for b, l := range map[int][]tag.Tag{3: {x}, 4: {y, x}, 6: {y}, 8: {x, z}} {
+		told(t, "Erase", k.drive.Erase(b), api.OK)
+		for _, p := range l {
+			_, err := k.drive.Program(b, p, bytes("d"))
+			told(t, "Program", err, api.OK)
+		}
+	}
+	k, err := Mount(c, small)
+	told(t, "Mount", err, api.OK)
+	if s := k.Stat(); s.Live != 3 || s.Free != 10-2-2 || k.places.Live(3) != 0 {
+		t.Errorf("Stat %v, %d in the block 3", s, k.places.Live(3))
+	}
+	told(t, "Audit", k.Audit(), api.OK)
+	// Copies in a block that is known to be bad, or older ones, are none.
+	c, k = made(t, small)
+	for b, l := range map[int][]tag.Tag{3: {x, y}, 5: {page(1, 1), z, x}} {
+		told(t, "Erase", k.drive.Erase(b), api.OK)
+		for _, p := range l {
+			_, err := k.drive.Program(b, p, bytes(string(rune('a'+p.Seq))))
+			told(t, "Program", err, api.OK)
+		}
+	}
+	k, err = Mount(c, small)
+	told(t, "Mount", err, api.OK)
+	if s, err := k.Read(1); s != bytes("c") || err != api.OK || k.Stat().Free != 10-2-2 {
+		t.Errorf("%x, %d, %v", s, err, k.Stat())
+	}
+}
+
+// TestManyCuts holds P18.5 where each mount is cut many times: what is free stays so, till the disk is mounted at last.
+func TestManyCuts(t *testing.T) {
+	for ci, g := range []geo.Config{full(10, 16, 1, 8, 16), full(8, 16, 1, 3, 3), full(7, 16, 0, 3, 3)} {
+		for seed := range int64(12) {
+			m := newModel(t, g, int64(1000*ci)+seed)
+			left := g.Spares
+			for range 120 {
+				if m.rng.Intn(2) == 0 {
+					m.c.Fuse(1+m.rng.Intn(40), tears[m.rng.Intn(len(tears))])
+				}
+				if under := m.until(1 + m.rng.Intn(3)); under != nil {
+					m.c.On()
+					if n, most := m.emptyBlocks(), 1+m.k.spares(); n < most {
+						t.Fatalf("%v: %d blocks have no pages, not %d", g, n, most)
+					}
+					if left > 0 && m.rng.Intn(10) == 0 {
+						m.wreck(left)
+						left = 0
+					}
+					m.mount(m.rng.Intn(40))
+					m.verify(under)
+				}
+			}
 		}
 	}
 }
